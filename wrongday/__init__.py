@@ -1,0 +1,1 @@
+"""A day of flights that goes wrong: when each flight leaves and arrives as things stand, and why."""
