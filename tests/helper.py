@@ -4,7 +4,8 @@ from wrongday.house import answers
 
 PLACES = {
     "flight": 0, "late": 1, "air": 2, "feed": 3, "unfeed": 4, "times": 5, "why": 6, "table": 7,
-    "cancel": 8, "swap": 9, "best": 10, "clock": 11,
+    "cancel": 8, "swap": 9, "best": 10, "clock": 11, "book": 12, "drop": 13, "miss": 14, "refuse": 15,
+    "where": 16, "wishes": 17, "rebook": 18, "could": 19, "steps": 20, "claim": 21, "load": 22,
 }
 
 
@@ -30,16 +31,21 @@ def divided(answered):
     return found
 
 
+def flat(call):
+    """The numbers of a call, a tuple of its name (or place) and what's behind it: numbers, or a row as a list."""
+    numbers = [PLACES.get(call[0], call[0])]
+    for part in call[1:]:
+        numbers.extend([len(part)] + part if isinstance(part, list) else [part])
+    return numbers
+
+
 def ask(*calls):
-    """The answers to calls, each a tuple of a name (or place) and the numbers behind it."""
-    numbers = []
-    for call in calls:
-        numbers.append(PLACES.get(call[0], call[0]))
-        numbers.extend(call[1:])
-    before = list(numbers)
-    answered = answers(Unchanging(numbers))
+    """The answers to calls, as `flat` takes them."""
+    numbers = [number for call in calls for number in flat(call)]
+    handed = Unchanging(numbers)
+    answered = answers(handed)
     assert type(answered) is list and all(type(number) is int for number in answered)
-    assert numbers == before
+    assert handed == numbers
     found = divided(answered)
     assert len(found) == len(calls)
     return found
@@ -55,3 +61,7 @@ def last(*calls):
 
 def flight(number, tail, src, dst, dep, arr, turn=0, cap=100, others=0):
     return ("flight", number, tail, src, dst, dep, arr, turn, cap, others)
+
+
+def book(number, on, rank=5, ready=0, latest=99999999):
+    return ("book", number, rank, on, ready, latest)

@@ -2,11 +2,12 @@
 
 import unittest
 
-from tests.helper import Unchanging, ask, divided, flight, last
+from tests.helper import PLACES, Unchanging, ask, book, divided, flight, last
 from wrongday.house import answers
 
 FLIGHT = (1, 9999)
 MOMENT = (0, 52595999)
+PASSENGER = (1, 999999)
 RANGES = {
     "flight": (FLIGHT, (0, 999), (0, 17575), (0, 17575), MOMENT, MOMENT, (0, 600), (0, 999), (0, 999)),
     "late": (FLIGHT, (0, 2880)),
@@ -18,6 +19,14 @@ RANGES = {
     "cancel": (FLIGHT,),
     "swap": (FLIGHT, FLIGHT),
     "clock": (MOMENT,),
+    "book": (PASSENGER, (0, 999), FLIGHT, MOMENT, (0, 99999999)),
+    "drop": (PASSENGER,),
+    "miss": (PASSENGER,),
+    "refuse": (PASSENGER, FLIGHT, (0, 1)),
+    "where": (PASSENGER,),
+    "wishes": (PASSENGER,),
+    "claim": (PASSENGER,),
+    "load": (FLIGHT,),
 }
 # Answered with 0 each, on the house that `HOUSE` makes, and so are those with one number at an edge, or not by -2.
 GOOD = {
@@ -31,13 +40,26 @@ GOOD = {
     "cancel": (1,),
     "swap": (1, 5),
     "clock": (10,),
+    "book": (8, 5, 1, 0, 9000),
+    "drop": (7,),
+    "miss": (7,),
+    "refuse": (7, 1, 1),
+    "where": (7,),
+    "wishes": (7,),
+    "claim": (6,),
+    "load": (1,),
 }
+# Behind it passenger 6 has arrived with flight 9, and 7 is on flight 2.
 HOUSE = (
+    flight(9, 9, 10, 20, 2, 3),
+    book(6, 9),
+    ("clock", 4),
     flight(1, 1, 10, 20, 2000, 4000),
     flight(2, 2, 20, 10, 5000, 6000),
     flight(3, 6, 20, 10, 5000, 6000),
     flight(5, 5, 10, 20, 2000, 4000),
     ("feed", 2, 1, 0, 0),
+    book(7, 2),
 )
 FAR = 1000000000000
 
@@ -67,12 +89,21 @@ class Lists(unittest.TestCase):
     def test_four_hundred_calls(self):
         self.assertEqual(answers([7] * 400), [1, 0] * 400)
 
-    def test_calls_of_later_places_do_not_shift_those_behind(self):
-        later = [12, 1, 1, 1, 1, 1, 13, 1, 14, 1, 15, 1, 1, 1, 16, 1, 17, 1, 18, 19, 3, 7, 7, 7, 20, 0, 20, 2, 7, 7,
+    def test_every_place_has_its_form(self):
+        calls = [12, 1, 1, 1, 1, 1, 13, 1, 14, 1, 15, 1, 1, 1, 16, 1, 17, 1, 18, 19, 3, 7, 7, 7, 20, 0, 20, 2, 7, 7,
                  21, 7, 22, 7]
-        found = divided(answers([11, 5] + later + [5, 1]))
-        self.assertEqual(found, [[0]] + [[-1]] * 12 + [[-3]])
+        found = divided(answers([11, 5] + calls + [5, 1]))
+        self.assertEqual(found, [[0], [-3], [-4], [-4], [-4], [-4], [-4], [0], [-4], [0], [0], [-4], [-3], [-3]])
+        self.assertEqual(sorted(PLACES.values()), list(range(23)))
+        self.assertEqual(set(RANGES) | {"table", "best", "rebook", "could", "steps"}, set(PLACES))
 
+    def test_rows_of_any_length_do_not_shift_what_is_behind(self):
+        for place in (19, 20):
+            for length in (0, 1, 2, 16, 17, 18, 59, 60, 61, 99, 100):
+                for number in (0, 5, FAR):
+                    found = divided(answers([11, 5, place, length] + [number] * length + [11, 6, 5, 1]))
+                    self.assertEqual(len(found), 4)
+                    self.assertEqual([found[0]] + found[2:], [[0], [0], [-3]])
 
 class Ranges(unittest.TestCase):
     def with_number(self, name, place, number):
@@ -99,7 +130,7 @@ class Ranges(unittest.TestCase):
     def test_the_range_comes_before_all_other_refusals(self):
         for name, bounds in RANGES.items():
             for place, (low, high) in enumerate(bounds):
-                # Nothing is there: all but flight and clock would be refused by -3, were the numbers right.
+                # Nothing is there: nearly all would be refused by -3 or -4, were the numbers right.
                 call = self.with_number(name, place, high + 1)
                 self.assertEqual(ask(call), [[-2]], call)
         taken = flight(1, 1, 10, 10, 0, 0, others=1000)
@@ -110,8 +141,8 @@ class Ranges(unittest.TestCase):
         for name, bounds in RANGES.items():
             for place, (low, high) in enumerate(bounds):
                 call = self.with_number(name, place, high + 1)
-                table = ask(*HOUSE, ("table",))[-1]
-                self.assertEqual(ask(*HOUSE, call, ("table",))[-1], table)
+                asked = (("table",), ("where", 7), ("wishes", 7), ("where", 8), ("load", 1), ("load", 2), ("claim", 6))
+                self.assertEqual(ask(*HOUSE, call, *asked)[-7:], ask(*HOUSE, *asked)[-7:])
 
 
 if __name__ == "__main__":

@@ -128,6 +128,17 @@ class Code(unittest.TestCase):
             if isinstance(node, ast.Compare) and isinstance(node.ops[0], (ast.Is, ast.IsNot)):
                 self.assertIsInstance(node.comparators[0], ast.Constant, where)
 
+    def test_sets_are_not_kept(self):
+        for name, tree in trees().items():
+            made = [node for node in ast.walk(tree) if isinstance(node, ast.Call) and isinstance(node.func, ast.Name)]
+            asked = [part for node in made if node.func.id in ("len", "sorted") for part in node.args]
+            for node in ast.walk(tree):
+                if isinstance(node, ast.Compare) and isinstance(node.ops[0], (ast.In, ast.NotIn)):
+                    asked.extend(node.comparators)
+            for node in made:
+                if node.func.id in ("set", "frozenset"):
+                    self.assertIn(node, asked, name)
+
     def test_texts_stand_alone_at_the_top_only(self):
         for name, tree in trees().items():
             for node in ast.walk(tree):

@@ -1,1 +1,1 @@
-"""A day of flights that goes wrong: when each flight leaves and arrives as things stand, and why."""
+"""A day of flights that goes wrong: when each flight leaves and arrives, who's seated where, who's owed what."""

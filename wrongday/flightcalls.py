@@ -6,6 +6,7 @@ the answer: a refusal's number alone, or 0 and what's told.
 
 from wrongday.aircraft import can_exchange, exchanged, flown_before, flown_by, flown_from
 from wrongday.flights import Flight
+from wrongday.passengers import passengers_on
 from wrongday.refusals import DOES_NOT_FIT, FULL, NO_FLIGHT, NOT_AS_IT_MUST_BE, THERE_ALREADY
 from wrongday.times import has_arrived, house_stands, lateness
 
@@ -137,6 +138,12 @@ def tell_table(house, row):
     return answer
 
 
+def cancel_one(house, flight):
+    flight.cancelled = True
+    for passenger in passengers_on(house, flight):
+        passenger.flight = None
+
+
 def cancel_flights(house, row):
     if row[0] not in house.flights:
         return [NO_FLIGHT]
@@ -145,7 +152,7 @@ def cancel_flights(house, row):
         return [NOT_AS_IT_MUST_BE]
     answer = [0]
     for flight in flown_from(house.flying(), house.tails, first):
-        flight.cancelled = True
+        cancel_one(house, flight)
         answer.append(flight.number)
         # The aircraft is back where it's left standing: what it flies from there stays.
         if flight.dst == first.src:

@@ -1,4 +1,4 @@
-"""A flight, the house that keeps the flights, and the order that flights are in."""
+"""A flight, the house that keeps the flights and the passengers, and the order that flights are in."""
 
 
 class Flight:
@@ -31,6 +31,9 @@ class House:
         self.flights = {}
         # Kept beside the flights, so that an exchange of aircraft can be tried on a copy.
         self.tails = {}
+        self.passengers = {}
+        # Pairs of minutes and an amount.
+        self.steps = []
 
     # The flights that aren't cancelled, in order.
     def flying(self):

@@ -2,17 +2,17 @@
 
 from wrongday.flightcalls import FLIGHT_CALLS
 from wrongday.flights import House
-from wrongday.forms import ARGUMENT_COUNTS, PLACES_WITH_ROW, in_ranges
-from wrongday.refusals import NOT_OF_ITS_FORM, OUT_OF_RANGE
+from wrongday.forms import RANGES, ROW_LENGTHS, numbers_fit
+from wrongday.passengercalls import PASSENGER_CALLS
+from wrongday.refusals import OUT_OF_RANGE
 
 
-def answer_call(house, place, arguments):
-    # The places behind these aren't served yet; what they're asked is only passed over.
-    if place >= len(FLIGHT_CALLS):
-        return [NOT_OF_ITS_FORM]
-    if not in_ranges(place, arguments):
+def answer_call(house, place, numbers):
+    if not numbers_fit(place, numbers):
         return [OUT_OF_RANGE]
-    return FLIGHT_CALLS[place](house, arguments)
+    if place < len(FLIGHT_CALLS):
+        return FLIGHT_CALLS[place](house, numbers)
+    return PASSENGER_CALLS[place - len(FLIGHT_CALLS)](house, numbers)
 
 
 def answers(calls):
@@ -22,10 +22,13 @@ def answers(calls):
     while at < len(calls):
         place = calls[at]
         first = at + 1
-        at = first + ARGUMENT_COUNTS[place]
+        count = len(RANGES[place])
+        # A row's length is told ahead of it, as it may be another than it should.
+        if place in ROW_LENGTHS:
+            count = calls[first]
+            first = first + 1
+        at = first + count
         answer = answer_call(house, place, calls[first:at])
-        if place in PLACES_WITH_ROW:
-            at = at + 1 + calls[at]
         answered.append(len(answer))
         answered.extend(answer)
     return answered
